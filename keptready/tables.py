@@ -6,8 +6,15 @@ LOAD = 0
 KEEP = 1
 PUT = 2
 TAKE = 3
+REFRESH = 4
+AGES = 5
+READ = 6
+TOGETHER = 7
 # What stands behind each call's number, in order: a number, or a list with its length before it.
-SHAPES = {0: ("list",), 1: ("list",), 2: ("number", "list"), 3: ("number",), 4: ("number",)}
+SHAPES = {
+    0: ("list",), 1: ("list",), 2: ("number", "list"), 3: ("number",), 4: ("number",),
+    5: (), 6: ("number", "number"), 7: (), 8: ("number", "number"),
+}
 NO_TABLE = 1
 
 
@@ -51,8 +58,16 @@ def answer_of(holder, call, given):
         return holder.put(given[0], given[1])
     if call == TAKE:
         return holder.take(given[0])
-    # What is left is refresh: a call without a shape has not come as far as here.
-    return holder.refresh(given[0])
+    if call == REFRESH:
+        return holder.refresh(given[0])
+    if call == AGES:
+        return holder.ages()
+    if call == READ:
+        return holder.read(given[0], given[1])
+    if call == TOGETHER:
+        return holder.together()
+    # What is left is was: a call without a shape has not come as far as here.
+    return holder.was(given[0], given[1])
 
 
 def answers(calls):

@@ -29,6 +29,22 @@ def refresh(grouping):
     return [4, grouping]
 
 
+def ages():
+    return [5]
+
+
+def read(grouping, oldest):
+    return [6, grouping, oldest]
+
+
+def together():
+    return [7]
+
+
+def was(how_many, grouping):
+    return [8, how_many, grouping]
+
+
 def parted(told):
     parts = []
     place = 0
@@ -56,6 +72,11 @@ def ask_loaded(text, *calls):
     if told[0][0] != 1:
         raise AssertionError(f"the table is at fault: {told[0]}")
     return told[1:]
+
+
+def told_lines(*lines):
+    """How a call tells these lines, each one a list of its numbers."""
+    return [len(lines)] + joined(lines)
 
 
 def rows_text(how_many, row="row 0 : 1 ;"):

@@ -2,7 +2,7 @@
 
 import unittest
 
-from calling import SAMPLE, ask, ask_loaded, keep, load, put, refresh, rows_text, take
+from calling import SAMPLE, ages, ask, ask_loaded, keep, load, put, read, refresh, rows_text, take, together, was
 
 FAR = 10 ** 18
 TWO = "columns a, b ; row 1, 2 : 3 ; row 4, 5 : 6 ;"
@@ -39,11 +39,13 @@ class PutAndTake(unittest.TestCase):
 
 class Refusals(unittest.TestCase):
     def test_all_calls_but_load_ask_for_a_table(self):
-        calls = [keep(), keep(99), put(1, 1), put(FAR), take(0), take(-1), refresh(0), refresh(FAR)]
+        calls = [keep(), keep(99), put(1, 1), put(FAR), take(0), take(-1), refresh(0), refresh(FAR), ages(), together()]
+        calls += [read(0, 0), read(-1, 0), read(0, -1), read(FAR, -FAR), was(0, 0), was(-1, 0), was(0, -1), was(FAR, FAR)]
         self.assertEqual(ask(*calls), [[-1]] * len(calls))
 
     def test_a_load_at_fault_brings_no_table(self):
-        self.assertEqual(ask(load("columns a"), keep(0), put(1, 1), take(0)), [[0, 3, 9], [-1], [-1], [-1]])
+        calls = [keep(0), put(1, 1), take(0), refresh(0), ages(), read(0, 0), together(), was(0, 0)]
+        self.assertEqual(ask(load("columns a"), *calls), [[0, 3, 9]] + [[-1]] * 8)
 
     def test_no_such_grouping(self):
         for columns, most in (("a", 1), ("a, b", 3), ("a, b, c", 7), ("a, b, c, d", 15)):
